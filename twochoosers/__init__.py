@@ -1,0 +1,1 @@
+"""Tables in which two choose, judged for all wishes."""

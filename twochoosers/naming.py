@@ -1,0 +1,12 @@
+"""Names of outcomes."""
+
+LETTERS = "abcdefghijklmnopqrstuvwxyz"
+DIGITS = "0123456789"
+LONGEST_NAME = 6
+
+
+def valid_name(text):
+    """Return True if the string is a name, and False otherwise."""
+    if not 1 <= len(text) <= LONGEST_NAME:
+        return False
+    return text[0] in LETTERS and all([sign in LETTERS or sign in DIGITS for sign in text])
