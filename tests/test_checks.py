@@ -3,8 +3,9 @@
 import itertools
 import unittest
 
-from twochoosers.checks import check_count, check_names, is_integer, is_set_of
-from twochoosers.errors import BadCount, BadName, DuplicateName
+from twochoosers.checks import (
+    check_count, check_names, check_outcomes, check_set, check_side, is_index, is_integer, is_set_of)
+from twochoosers.errors import BadCount, BadName, BadSet, BadSide, DuplicateName, UnlikeOutcomes
 
 
 class IsIntegerTest(unittest.TestCase):
@@ -16,6 +17,20 @@ class IsIntegerTest(unittest.TestCase):
     def test_other_values(self):
         for value in (True, False, None, "", "1", [], [1], (), (1,), {}, {1: 1}):
             self.assertIs(is_integer(value), False, repr(value))
+
+
+class IsIndexTest(unittest.TestCase):
+
+    def test_integers(self):
+        for count in range(0, 5):
+            for value in range(-3, 8):
+                self.assertIs(is_index(value, count), 0 <= value < count)
+        self.assertIs(is_index(10 ** 6000, 8), False)
+        self.assertIs(is_index(-10 ** 6000, 8), False)
+
+    def test_other_values(self):
+        for value in (None, True, False, "", "0", [0], (0,), {}, {0: 0}):
+            self.assertIs(is_index(value, 8), False, repr(value))
 
 
 class IsSetOfTest(unittest.TestCase):
@@ -61,6 +76,29 @@ class CheckTest(unittest.TestCase):
         with self.assertRaises(DuplicateName) as context:
             check_names(("b", "c", "b", "C", "c"))
         self.assertEqual(context.exception.name, "b")
+
+    def test_sets(self):
+        self.assertIsNone(check_set(("a", "b"), ("b",)))
+        self.assertIsNone(check_set((), ()))
+        for value in (None, True, 0, "a", ["a"], ("b", "a"), ("c",), ("a", "a"), {"a": 1}):
+            with self.assertRaises(BadSet) as context:
+                check_set(("a", "b"), value)
+            self.assertIs(context.exception.value, value)
+
+    def test_sides(self):
+        self.assertIsNone(check_side("rows"))
+        self.assertIsNone(check_side("columns"))
+        for word in ("", "row", "Rows", "columns ", "rows\n", "rowscolumns"):
+            with self.assertRaises(BadSide) as context:
+                check_side(word)
+            self.assertEqual(context.exception.word, word)
+
+    def test_outcomes(self):
+        self.assertIsNone(check_outcomes(("a", "b"), ("a", "b")))
+        for names in ((), ("a",), ("a", "c"), ("a", "b", "c")):
+            with self.assertRaises(UnlikeOutcomes) as context:
+                check_outcomes(("a", "b"), names)
+            self.assertEqual(context.exception.names, names)
 
 
 if __name__ == "__main__":

@@ -1,8 +1,8 @@
-"""Tests of twochoosers.naming: points 2, 3 and 13."""
+"""Tests of twochoosers.naming: points 2 to 4 and 13."""
 
 import unittest
 
-from twochoosers.naming import valid_name
+from twochoosers.naming import as_set, valid_name
 
 LETTERS = "abcdefghijklmnopqrstuvwxyz"
 DIGITS = "0123456789"
@@ -44,6 +44,15 @@ class ValidNameTest(unittest.TestCase):
     def test_by_the_name_of_the_argument(self):
         self.assertIs(valid_name(text="win"), True)
         self.assertIs(valid_name(text=""), False)
+
+
+class AsSetTest(unittest.TestCase):
+
+    def test_each_name_once_in_ascending_order(self):
+        self.assertEqual(as_set([]), ())
+        self.assertEqual(as_set(["b", "a", "b", "a10", "a"]), ("a", "a10", "b"))
+        self.assertEqual(as_set(("c", "c", "c")), ("c",))
+        self.assertIs(type(as_set(["a"])), tuple)
 
 
 if __name__ == "__main__":

@@ -4,6 +4,7 @@ import copy
 import itertools
 import unittest
 
+from cases import ProgramCase
 from twochoosers.errors import (
     BadCount, BadName, BadSet, BadWish, DuplicateName, UnknownName, UnlikeOutcomes)
 from twochoosers.wishes import Wishes
@@ -11,19 +12,6 @@ from twochoosers.wishes import Wishes
 NOT_INTEGERS = [
     None, True, False, "", "1", "a", [], [1], (), (1,), {}, {"a": 1}, [[[[[1]]]]], [{"a": (None,)}],
 ]
-
-
-class WishesCase(unittest.TestCase):
-
-    def refused(self, error, argument, value, call, *given, **named):
-        """Check that the call raises just this error, which keeps this very kind of value."""
-        with self.assertRaises(error) as context:
-            call(*given, **named)
-        self.assertIs(type(context.exception), error)
-        kept = getattr(context.exception, argument)
-        self.assertEqual(kept, value)
-        self.assertIs(type(kept), type(value))
-        return kept
 
 
 def small_wishes():
@@ -35,7 +23,7 @@ def small_wishes():
     ]
 
 
-class InterfaceTest(WishesCase):
+class InterfaceTest(ProgramCase):
 
     def test_examples(self):
         wishes = Wishes({"a": 3, "b": -1, "c": 3})
@@ -65,7 +53,7 @@ class InterfaceTest(WishesCase):
         self.assertEqual(Wishes.__module__, "twochoosers.wishes")
 
 
-class ConstructorTest(WishesCase):
+class ConstructorTest(ProgramCase):
 
     def test_ordinary(self):
         wishes = Wishes({"b": 0, "a": -5, "c1": 10 ** 6000})
@@ -113,7 +101,7 @@ class ConstructorTest(WishesCase):
         self.assertEqual(list(amounts.items()), [("b", [1]), ("a", 0)])
 
 
-class CopiesTest(WishesCase):
+class CopiesTest(ProgramCase):
 
     def test_later_changes_of_the_dict_have_no_effect(self):
         amounts = {"b": 2, "a": 1}
@@ -185,7 +173,7 @@ class CopiesTest(WishesCase):
         self.assertEqual(wishes.outcomes, ("a", "b"))
 
 
-class LookingTest(WishesCase):
+class LookingTest(ProgramCase):
 
     def test_outcomes_ascend_as_strings_do(self):
         wishes = Wishes({"b": 1, "a10": 1, "a": 1, "a2": 1, "ab": 1, "z": 0})
@@ -237,7 +225,7 @@ class LookingTest(WishesCase):
         self.refused(UnknownName, "name", "x", wishes.prefers, one="x", other="x")
 
 
-class BestAndRanksTest(WishesCase):
+class BestAndRanksTest(ProgramCase):
 
     def test_best(self):
         wishes = Wishes({"a": 3, "b": -1, "c": 3, "d": 0})
@@ -288,7 +276,7 @@ class BestAndRanksTest(WishesCase):
             self.assertEqual(wishes.ranks(), ranks)
 
 
-class OppositeAgreesEqualTest(WishesCase):
+class OppositeAgreesEqualTest(ProgramCase):
 
     def test_opposite(self):
         wishes = Wishes({"a": 3, "b": -1, "c": 0})
@@ -347,7 +335,7 @@ class OppositeAgreesEqualTest(WishesCase):
             self.assertIs(wishes != value, True)
 
 
-class RankedTest(WishesCase):
+class RankedTest(ProgramCase):
 
     def test_ordinary(self):
         wishes = Wishes.ranked([["b"], ["c", "a"], ["d"]])
@@ -402,7 +390,7 @@ class RankedTest(WishesCase):
         self.refused(BadName, "name", "B", Wishes.ranked, [["B"], ["B"]])
 
 
-class OnlyTest(WishesCase):
+class OnlyTest(ProgramCase):
 
     def test_ordinary(self):
         wishes = Wishes.only(["c", "a", "b"], ("a", "c"))

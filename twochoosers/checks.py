@@ -1,15 +1,21 @@
 """Checks of arguments that several parts of the program share."""
 
-from twochoosers.errors import BadCount, BadName, DuplicateName
+from twochoosers.errors import BadCount, BadName, BadSet, BadSide, DuplicateName, UnlikeOutcomes
 from twochoosers.naming import valid_name
 
 MOST_OUTCOMES = 6
+SIDES = ("rows", "columns")
 
 
 def is_integer(value):
     """Return True if the value, which may be any value, is an integer, and False otherwise."""
     # Python counts True and False among the integers; here they are none.
     return isinstance(value, int) and not isinstance(value, bool)
+
+
+def is_index(value, count):
+    """Return True if the value, which may be any value, is an integer from 0 on below the count."""
+    return is_integer(value) and 0 <= value < count
 
 
 def is_set_of(outcomes, value):
@@ -33,3 +39,21 @@ def check_names(names):
             raise BadName(name)
         if name in names[:at]:
             raise DuplicateName(name)
+
+
+def check_set(outcomes, value):
+    """Raise BadSet if the value, which may be any value, is not a set of these outcomes."""
+    if not is_set_of(outcomes, value):
+        raise BadSet(value)
+
+
+def check_side(word):
+    """Raise BadSide if this is not one of the two sides."""
+    if word not in SIDES:
+        raise BadSide(word)
+
+
+def check_outcomes(outcomes, names):
+    """Raise UnlikeOutcomes if the names, a tuple in ascending order, are not these outcomes."""
+    if names != outcomes:
+        raise UnlikeOutcomes(names)

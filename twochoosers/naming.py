@@ -1,4 +1,4 @@
-"""Names of outcomes."""
+"""Names of outcomes, and sets of them."""
 
 LETTERS = "abcdefghijklmnopqrstuvwxyz"
 DIGITS = "0123456789"
@@ -10,3 +10,8 @@ def valid_name(text):
     if not 1 <= len(text) <= LONGEST_NAME:
         return False
     return text[0] in LETTERS and all([sign in LETTERS or sign in DIGITS for sign in text])
+
+
+def as_set(names):
+    """Return the set of these names: each of them once, in ascending order."""
+    return tuple(sorted(set(names)))

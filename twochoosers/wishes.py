@@ -1,7 +1,7 @@
 """Wishes: how much a side likes each outcome."""
 
-from twochoosers.checks import check_count, check_names, is_integer, is_set_of
-from twochoosers.errors import BadCount, BadName, BadSet, BadWish, UnknownName, UnlikeOutcomes
+from twochoosers.checks import check_count, check_names, check_outcomes, check_set, is_integer
+from twochoosers.errors import BadCount, BadName, BadWish, UnknownName
 from twochoosers.naming import valid_name
 
 
@@ -39,8 +39,7 @@ class Wishes:
         """Return the wishes with 1 for the outcomes in the set, and 0 for all others."""
         check_count(len(outcomes))
         check_names(outcomes)
-        if not is_set_of(outcomes, wanted):
-            raise BadSet(wanted)
+        check_set(outcomes, wanted)
         return cls({name: 1 if name in wanted else 0 for name in outcomes})
 
     @property
@@ -86,8 +85,7 @@ class Wishes:
 
     def agrees(self, other):
         """Return True if the other wishes have the same ranks, and False otherwise."""
-        if other.outcomes != self._outcomes:
-            raise UnlikeOutcomes(other.outcomes)
+        check_outcomes(self._outcomes, other.outcomes)
         return self.ranks() == other.ranks()
 
     def _liked(self, amount):

@@ -1,0 +1,80 @@
+"""Forced sets: into which sets of outcomes a side can bring the choice, whatever the other does."""
+
+from twochoosers.checks import check_set, check_side, is_set_of
+from twochoosers.naming import as_set
+
+
+def all_sets(outcomes):
+    """Return the list of all sets of these outcomes, the shorter ones first."""
+    sets = [()]
+    for name in outcomes:
+        sets = sets + [names + (name,) for names in sets]
+    return sorted(sets, key=lambda names: (len(names), names))
+
+
+def is_set(outcomes, value):
+    """Return True if the value, which may be any value, is a set of these outcomes."""
+    return is_set_of(outcomes, value)
+
+
+def others(outcomes, wanted):
+    """Return the set of the outcomes that are not in the set."""
+    return tuple([name for name in outcomes if name not in wanted])
+
+
+def lies_in(names, wanted):
+    """Return True if all the names are in the set, and False otherwise."""
+    return all([name in wanted for name in names])
+
+
+def line_set(table, side, number):
+    """Return the set of the outcomes of a line."""
+    return as_set(table.line(side, number))
+
+
+def forcing_line(table, side, wanted):
+    """Return the number of the first line of the side that lies in the set, or None."""
+    check_side(side)
+    check_set(table.outcomes, wanted)
+    for number, line in enumerate(table.lines_of(side)):
+        if lies_in(line, wanted):
+            return number
+    return None
+
+
+def forces(table, side, wanted):
+    """Return True if the side forces the set, and False otherwise."""
+    return forcing_line(table, side, wanted) is not None
+
+
+def stops(table, side, wanted):
+    """Return True if every line of the other side has an outcome in the set."""
+    check_side(side)
+    check_set(table.outcomes, wanted)
+    other_side = "columns" if side == "rows" else "rows"
+    return not forces(table, other_side, others(table.outcomes, wanted))
+
+
+def least_sets(table, side):
+    """Return the list of the sets that the side forces while it forces no other set inside."""
+    check_side(side)
+    least = []
+    # What lies in a set comes before it, so a smaller forced set is known by then.
+    for wanted in all_sets(table.outcomes):
+        if forces(table, side, wanted) and not any([lies_in(names, wanted) for names in least]):
+            least.append(wanted)
+    return least
+
+
+def firm_gap(table):
+    """Return the first set that keeps the table from being firm, or None if there is none."""
+    for wanted in all_sets(table.outcomes):
+        rest = others(table.outcomes, wanted)
+        if not forces(table, "rows", wanted) and not forces(table, "columns", rest):
+            return wanted
+    return None
+
+
+def is_firm(table):
+    """Return True if the table is firm, and False otherwise."""
+    return firm_gap(table) is None
