@@ -3,29 +3,13 @@
 import itertools
 import unittest
 
-from cases import ProgramCase, mixed_tables, small_tables
+from cases import NOT_SETS, NOT_SIDES, SIDES, ProgramCase, mixed_tables, sets_of, small_tables
 from twochoosers import forcing
 from twochoosers.errors import BadLine, BadSet, BadSide
 from twochoosers.forcing import (
-    all_sets, firm_gap, forces, forcing_line, is_firm, is_set, least_sets, line_set, others, stops)
+    all_sets, common, firm_gap, forces, forcing_line, is_firm, is_set, least_of, least_sets, lies_in,
+    line_set, other_side, others, stops)
 from twochoosers.tables import Table
-
-SIDES = ("rows", "columns")
-NOT_SIDES = ["", "row", "column", "Rows", "rows ", "columns\n", "a", "lines"]
-NOT_SETS = [
-    None, True, False, 0, 1, 10 ** 6000, "", "a", "ab", [], ["a"], ["a", "b"], {}, {"a": 1},
-    ("b", "a"), ("a", "a"), ("d",), ("a", "d"), ("",), ("a", ""), ("A",), ("ab",), (None,), (0,),
-    (True,), ("a", 1), (1, "a"), ("a", None), ("a", True), ((),), (("a",),), (["a"],), ("a", ["b"]),
-    ({},), ("a", {"b": 1}), ("a", "b", "b"), ("a", "c", "b"), ((((("a",),),),),), ("a", "b", "c", "d"),
-    [[[[["a"]]]]], ("a", "b", "c", "c"), ("rows",),
-]
-
-
-def sets_of(outcomes):
-    """All sets of these outcomes, in order."""
-    return [
-        names for length in range(len(outcomes) + 1) for names in itertools.combinations(outcomes, length)
-    ]
 
 
 def line_sets(table, side):
@@ -115,6 +99,27 @@ class SetsTest(ProgramCase):
             self.assertIs(is_set(outcomes, rest), True)
             self.assertEqual(sorted(rest + wanted), list(outcomes))
             self.assertEqual(others(outcomes, rest), wanted)
+
+
+class SharedPartsTest(ProgramCase):
+
+    def test_common_and_lies_in(self):
+        for one in sets_of(("a", "b", "c")):
+            for other in sets_of(("b", "c", "d")):
+                self.assertEqual(common(one, other), tuple(sorted(set(one) & set(other))))
+                self.assertIs(lies_in(one, other), set(one) <= set(other))
+
+    def test_least_of(self):
+        every = sets_of(("a", "b", "c"))
+        self.assertEqual(least_of([]), [])
+        self.assertEqual(least_of(every), [()])
+        for sets in itertools.chain(*[itertools.combinations(every, length) for length in range(1, 5)]):
+            least = [names for names in sets if not any(set(one) < set(names) for one in sets)]
+            self.assertEqual(least_of(sets), least)
+        self.assertEqual(least_of([("a",), ("a",), ("b", "c"), ("b", "c")]), [("a",), ("b", "c")])
+
+    def test_other_side(self):
+        self.assertEqual([other_side(side) for side in SIDES], ["columns", "rows"])
 
 
 class LineSetTest(ProgramCase):

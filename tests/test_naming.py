@@ -2,7 +2,7 @@
 
 import unittest
 
-from twochoosers.naming import as_set, valid_name
+from twochoosers.naming import as_set, in_order, valid_name
 
 LETTERS = "abcdefghijklmnopqrstuvwxyz"
 DIGITS = "0123456789"
@@ -53,6 +53,17 @@ class AsSetTest(unittest.TestCase):
         self.assertEqual(as_set(["b", "a", "b", "a10", "a"]), ("a", "a10", "b"))
         self.assertEqual(as_set(("c", "c", "c")), ("c",))
         self.assertIs(type(as_set(["a"])), tuple)
+
+
+class InOrderTest(unittest.TestCase):
+
+    def test_the_shorter_ones_first(self):
+        ordered = [(), ("a",), ("a10",), ("a2",), ("b",), ("a", "b"), ("a", "c"), ("a10", "b"), ("a", "b", "c")]
+        for start in range(len(ordered)):
+            given = ordered[start:] + ordered[:start]
+            self.assertEqual(in_order(given), ordered)
+            self.assertEqual(in_order(tuple(given[::-1])), ordered)
+        self.assertEqual(in_order([]), [])
 
 
 if __name__ == "__main__":

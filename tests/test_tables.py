@@ -4,15 +4,12 @@ import copy
 import itertools
 import unittest
 
-from cases import ANY_VALUES, ProgramCase, cells_in, mixed_tables, small_tables
+from cases import (
+    ANY_VALUES, NOT_NAMES, NOT_SIDES, SIDES, ProgramCase, cells_in, mixed_tables, small_tables)
 from twochoosers.errors import BadCell, BadCount, BadLine, BadName, BadSide, BadText
 from twochoosers.forcing import is_firm
 from twochoosers.tables import Table, cells_of, is_cell
 from twochoosers.walks import is_smooth
-
-SIDES = ("rows", "columns")
-NOT_SIDES = ["", "row", "column", "Rows", "rows ", "columns\n", "a", "lines"]
-NOT_NAMES = ["", "A", "1a", "a b", "a\n", "abcdefg", "a/b", "/", " ", "a_"]
 
 
 class InterfaceTest(ProgramCase):

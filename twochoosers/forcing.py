@@ -1,7 +1,7 @@
 """Forced sets: into which sets of outcomes a side can bring the choice, whatever the other does."""
 
 from twochoosers.checks import check_set, check_side, is_set_of
-from twochoosers.naming import as_set
+from twochoosers.naming import as_set, in_order
 
 
 def all_sets(outcomes):
@@ -9,7 +9,7 @@ def all_sets(outcomes):
     sets = [()]
     for name in outcomes:
         sets = sets + [names + (name,) for names in sets]
-    return sorted(sets, key=lambda names: (len(names), names))
+    return in_order(sets)
 
 
 def is_set(outcomes, value):
@@ -22,9 +22,29 @@ def others(outcomes, wanted):
     return tuple([name for name in outcomes if name not in wanted])
 
 
+def common(one, other):
+    """Return the set of the outcomes that are in both sets."""
+    return tuple([name for name in one if name in other])
+
+
 def lies_in(names, wanted):
     """Return True if all the names are in the set, and False otherwise."""
     return all([name in wanted for name in names])
+
+
+def least_of(sets):
+    """Return the list of those of these sets, given in their order, in which none of the others lies."""
+    least = []
+    # What lies in a set comes before it, so it is known by then whether there is such a set.
+    for wanted in sets:
+        if not any([lies_in(names, wanted) for names in least]):
+            least.append(wanted)
+    return least
+
+
+def other_side(side):
+    """Return the word for the side that this one plays with."""
+    return "columns" if side == "rows" else "rows"
 
 
 def line_set(table, side, number):
@@ -51,19 +71,13 @@ def stops(table, side, wanted):
     """Return True if every line of the other side has an outcome in the set."""
     check_side(side)
     check_set(table.outcomes, wanted)
-    other_side = "columns" if side == "rows" else "rows"
-    return not forces(table, other_side, others(table.outcomes, wanted))
+    return not forces(table, other_side(side), others(table.outcomes, wanted))
 
 
 def least_sets(table, side):
     """Return the list of the sets that the side forces while it forces no other set inside."""
     check_side(side)
-    least = []
-    # What lies in a set comes before it, so a smaller forced set is known by then.
-    for wanted in all_sets(table.outcomes):
-        if forces(table, side, wanted) and not any([lies_in(names, wanted) for names in least]):
-            least.append(wanted)
-    return least
+    return least_of([names for names in all_sets(table.outcomes) if forces(table, side, names)])
 
 
 def firm_gap(table):

@@ -15,3 +15,8 @@ def valid_name(text):
 def as_set(names):
     """Return the set of these names: each of them once, in ascending order."""
     return tuple(sorted(set(names)))
+
+
+def in_order(sets):
+    """Return the list of these sets in their order: the shorter ones first."""
+    return sorted(sets, key=lambda names: (len(names), names))

@@ -99,8 +99,7 @@ class Table:
 
     def slim(self):
         """Return the table without rows that repeat one above, then without such columns."""
-        rows = without_repeats(self._rows)
-        return table_of("columns", without_repeats(exchanged(rows)))
+        return Table(slim_lines(self._rows))
 
 
 def check_shape(lines):
@@ -145,3 +144,8 @@ def table_of(side, lines):
 def without_repeats(lines):
     """Return the list of the lines without those that equal an earlier one."""
     return [line for at, line in enumerate(lines) if line not in lines[:at]]
+
+
+def slim_lines(rows):
+    """Return the tuple of the rows without those that repeat one above, then without such columns."""
+    return exchanged(without_repeats(exchanged(without_repeats(rows))))
