@@ -284,7 +284,7 @@ class TextTest(ProgramCase):
             "rows(b, a)", "rows(a, a)", "rows(a, rows(b, c))", "rows(rows(a, b), c)", "Rows(a, b)",
             "rows(a, columns(b))", "rows(columns(b, c), a)", "rows(a, columns(c, b))", "row(a, b)",
             "rows(a, columns(a, b))", "rows(columns(a, b), columns(a, c))", "rows(a, B)", "rows(a, abcdefg)",
-            "columns", "A", "1", "a_", "abcdefg", "rows(a, 1)", "rows[a, b]", "rows((a, b))", "((a))", "(a)",
+            "columns", "None", "A", "1", "a_", "abcdefg", "rows(a, 1)", "rows[a, b]", "rows((a, b))", "((a))", "(a)",
             "rows(a, b, c, d, e, f, g)", "rows(a, columns(b, c, d, e, f, g))", "rows(a, columns)",
             "columns(a, columns(b, c))", "rows(a(b, c))", "rows(a, b(c))", ")rows(a, b)", "rows)a, b(",
             "rows(a, columns(b, c)", "rows(a, columns(b, c)))", "a)", "(a", "a,", ",a", "rows(a; b)",

@@ -80,11 +80,18 @@ def least_sets(table, side):
     return least_of([names for names in all_sets(table.outcomes) if forces(table, side, names)])
 
 
+def is_gap(table, value):
+    """Return True if the value, which may be any value, is a set that keeps the table from being firm."""
+    if not is_set_of(table.outcomes, value):
+        return False
+    rest = others(table.outcomes, value)
+    return not forces(table, "rows", value) and not forces(table, "columns", rest)
+
+
 def firm_gap(table):
     """Return the first set that keeps the table from being firm, or None if there is none."""
     for wanted in all_sets(table.outcomes):
-        rest = others(table.outcomes, wanted)
-        if not forces(table, "rows", wanted) and not forces(table, "columns", rest):
+        if is_gap(table, wanted):
             return wanted
     return None
 

@@ -17,7 +17,7 @@ def put(table, name, other):
 
 def joined_row(upper, name, lower):
     """Return the row for a row of a table and a row of the one that is put in for the name."""
-    return tuple([inner if outer == name else outer for outer in upper for inner in lower])
+    return [inner if outer == name else outer for outer in upper for inner in lower]
 
 
 def check_put(table, name, other):
@@ -34,7 +34,7 @@ def put_forces(table, name, other, side, wanted):
     check_put(table, name, other)
     check_side(side)
     kept = others(table.outcomes, (name,))
-    check_set(as_set(kept + other.outcomes), wanted)
+    check_set(kept + other.outcomes, wanted)
     goal = common(kept, wanted)
     if forces(other, side, common(other.outcomes, wanted)):
         goal = as_set(goal + (name,))

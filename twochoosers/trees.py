@@ -163,6 +163,4 @@ def plans_of_rows(parts):
     takings = [()]
     for rows in parts:
         takings = [taken + (column,) for taken in takings for column in range(len(rows[0]))]
-    return [
-        tuple([row[taken[at]] for taken in takings]) for at, part in enumerate(parts) for row in part
-    ]
+    return [[row[taken[at]] for taken in takings] for at, part in enumerate(parts) for row in part]

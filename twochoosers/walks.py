@@ -1,6 +1,6 @@
 """Sequences of improvements, and tables in which all of them end."""
 
-from twochoosers.checks import is_integer
+from twochoosers.checks import is_index, is_integer
 from twochoosers.errors import BadCount, IsSmooth
 from twochoosers.moves import better_cells, check_wishes, wishes_fit
 from twochoosers.naming import as_set
@@ -81,25 +81,37 @@ def longest(table, row_wishes, column_wishes):
     return count - 1
 
 
+def pairs_below(count):
+    """Return the list of all pairs of numbers from 0 on below the count, the smaller number first."""
+    return [(one, other) for one in range(count) for other in range(one + 1, count)]
+
+
+def is_pair_below(count, value):
+    """Return True if the value, which may be any value, is such a pair of numbers."""
+    if not isinstance(value, tuple) or len(value) != 2:
+        return False
+    return is_index(value[0], count) and is_index(value[1], count) and value[0] < value[1]
+
+
+def is_rough_part(table, value):
+    """Return True if the value, which may be any value, is a part for which smoothness fails."""
+    if not isinstance(value, tuple) or len(value) != 2:
+        return False
+    rows, columns = value
+    if not is_pair_below(table.height, rows) or not is_pair_below(table.width, columns):
+        return False
+    left, right = columns
+    upper, lower = [table.lines[row] for row in rows]
+    rows_differ = upper[left] != upper[right] and lower[left] != lower[right]
+    return rows_differ and upper[left] != lower[left] and upper[right] != lower[right]
+
+
 def rough_part(table):
     """Return the first two rows and two columns for which smoothness fails, or None."""
-    lines = table.lines
-    for above in range(table.height):
-        for below in range(above + 1, table.height):
-            columns = rough_columns(lines[above], lines[below])
-            if columns is not None:
-                return ((above, below), columns)
-    return None
-
-
-def rough_columns(upper, lower):
-    """Return the first two columns in which these two rows are not smooth, or None."""
-    for left in range(len(upper)):
-        for right in range(left + 1, len(upper)):
-            rows_differ = upper[left] != upper[right] and lower[left] != lower[right]
-            columns_differ = upper[left] != lower[left] and upper[right] != lower[right]
-            if rows_differ and columns_differ:
-                return (left, right)
+    for rows in pairs_below(table.height):
+        for columns in pairs_below(table.width):
+            if is_rough_part(table, (rows, columns)):
+                return (rows, columns)
     return None
 
 
